@@ -1,0 +1,71 @@
+// Package prompt: questions about rules and facts, one answer after the other. See DOC.md.
+package prompt
+
+import (
+	"prompt/api"
+	"prompt/read"
+	"prompt/term"
+)
+
+// Session holds clauses, and a question that may go on.
+type Session struct {
+	limit   int // of steps
+	clauses []term.Clause
+}
+
+// New makes a session with a limit of steps (P3).
+func New(limit int) (*Session, api.Errno) {
+	if limit < 1 || limit > api.MaxSteps {
+		return nil, api.ErrArg
+	}
+	return &Session{limit: limit}, api.OK
+}
+
+// Consult adds the clauses of a text (P4, P5).
+func (x *Session) Consult(text string) (api.Errno, int) {
+	if x == nil {
+		return api.ErrArg, 0
+	}
+	x.Stop()
+	clauses, code, place := read.Clauses(text)
+	if code != api.OK {
+		return code, place
+	}
+	if len(x.clauses)+len(clauses) > api.MaxClauses {
+		return api.ErrFull, 0
+	}
+	x.clauses = append(x.clauses, clauses...)
+	return api.OK, 0
+}
+
+// Listing tells all clauses (P6).
+func (x *Session) Listing() string {
+	if x == nil {
+		return ""
+	}
+	listing := ""
+	for _, clause := range x.clauses {
+		listing += clause.Text() + "\n"
+	}
+	return listing
+}
+
+// Ask asks a question (P7 to P12). No question is played yet.
+func (x *Session) Ask(text string) api.Reply {
+	if x == nil {
+		return api.Reply{Kind: api.Idle}
+	}
+	return api.Reply{}
+}
+
+// More asks for the next answer (P7). As long as Ask plays nothing, no question is suspended.
+func (x *Session) More() api.Reply { return api.Reply{Kind: api.Idle} }
+
+// Stop ends the question (P7). As long as Ask plays nothing, there is none.
+func (x *Session) Stop() {}
+
+// Save tells the session as bytes (P13). There are no images yet.
+func (x *Session) Save() string { return "" }
+
+// Load puts a session that was saved in the place of this one (P13, P14). As long as Save gives no image, no bytes are one.
+func (x *Session) Load(image string) api.Errno { return api.ErrImage }
