@@ -3,14 +3,16 @@ package prompt
 
 import (
 	"prompt/api"
+	"prompt/play"
 	"prompt/read"
 	"prompt/term"
 )
 
 // Session holds clauses, and a question that may go on.
 type Session struct {
-	limit   int // of steps
-	clauses []term.Clause
+	limit    int // of steps
+	clauses  []term.Clause
+	question *play.Question // the one that is suspended, or nil
 }
 
 // New makes a session with a limit of steps (P3).
@@ -50,19 +52,42 @@ func (x *Session) Listing() string {
 	return listing
 }
 
-// Ask asks a question (P7 to P12). No question is played yet.
+// Ask asks a question (P7 to P12).
 func (x *Session) Ask(text string) api.Reply {
 	if x == nil {
 		return api.Reply{Kind: api.Idle}
 	}
-	return api.Reply{}
+	x.Stop()
+	goals, names, code, place := read.Question(text)
+	if code != api.OK {
+		return api.Reply{Kind: api.Bad, Code: code, Place: place}
+	}
+	question := play.Begin(goals, names)
+	reply := question.First(x.clauses, x.limit)
+	if reply.Kind == api.Answer {
+		x.question = question
+	}
+	return reply
 }
 
-// More asks for the next answer (P7). As long as Ask plays nothing, no question is suspended.
-func (x *Session) More() api.Reply { return api.Reply{Kind: api.Idle} }
+// More asks for the next answer (P7).
+func (x *Session) More() api.Reply {
+	if x == nil || x.question == nil {
+		return api.Reply{Kind: api.Idle}
+	}
+	reply := x.question.Next(x.clauses, x.limit)
+	if reply.Kind != api.Answer {
+		x.Stop()
+	}
+	return reply
+}
 
-// Stop ends the question (P7). As long as Ask plays nothing, there is none.
-func (x *Session) Stop() {}
+// Stop ends the question (P7).
+func (x *Session) Stop() {
+	if x != nil {
+		x.question = nil
+	}
+}
 
 // Save tells the session as bytes (P13). There are no images yet.
 func (x *Session) Save() string { return "" }

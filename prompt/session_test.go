@@ -94,6 +94,73 @@ func TestP1AnyText(t *testing.T) {
 	}
 }
 
+// wantShape checks what holds of every reply that a session gives.
+func wantShape(t *testing.T, got api.Reply, call string) {
+	t.Helper()
+	rest := got
+	rest.Kind = 0
+	switch got.Kind {
+	case api.Answer:
+		if got.Text == "" {
+			t.Fatalf("%s = %+v, an answer without a text", call, got)
+		}
+		rest.Text = ""
+	case api.Bad:
+		if got.Code < api.ErrLong || got.Code > api.ErrGoal || got.Code == api.ErrHead || got.Place < 0 {
+			t.Fatalf("%s = %+v", call, got)
+		}
+		rest.Code = 0
+		rest.Place = 0
+	}
+	if got.Kind < api.Answer || got.Kind > api.Unknown || rest != (api.Reply{}) {
+		t.Fatalf("%s = %+v", call, got)
+	}
+}
+
+// anyCall makes some call of a session, and tells it and what it answered.
+func anyCall(r *rand.Rand, x *prompt.Session) (string, api.Reply) {
+	switch k := r.Intn(20); {
+	case k < 3:
+		text := anyClause(r)
+		code, place := x.Consult(text)
+		return "Consult " + text, api.Reply{Code: code, Place: place}
+	case k == 3:
+		text := anyText(r)
+		return "Ask " + text, x.Ask(text)
+	case k == 4:
+		x.Stop()
+		return "Stop", x.More()
+	case k < 10:
+		text := anyNamed(r, 2) + "," + anyNamed(r, 1) + "."
+		return "Ask " + text, x.Ask(text)
+	}
+	return "More", x.More()
+}
+
+func TestP1AnyQuestion(t *testing.T) {
+	r := rand.New(rand.NewSource(3))
+	for i := 0; i < 300; i++ {
+		x := begun(t)
+		ended := true
+		for j := 0; j < 60; j++ {
+			call, got := anyCall(r, x)
+			if strings.HasPrefix(call, "Consult") {
+				ended = true
+				continue
+			}
+			wantShape(t, got, call)
+			if call == "Stop" || call == "More" && ended {
+				if got.Kind != api.Idle {
+					t.Fatalf("%s = %+v, where no question is suspended", call, got)
+				}
+			} else if got.Kind == api.Idle {
+				t.Fatalf("%s = Idle", call)
+			}
+			ended = got.Kind != api.Answer
+		}
+	}
+}
+
 // A text can nest no deeper than its bytes allow; reading must bear that.
 func TestP1DeepText(t *testing.T) {
 	deep := strings.Repeat("p(", 132) + "p" + strings.Repeat(")", 132)
@@ -129,6 +196,29 @@ func TestP2SessionsApart(t *testing.T) {
 	}
 	wantListing(t, first, alone.Listing())
 	wantListing(t, second, "other(A):-p(A,A).\n")
+}
+
+// The same calls have the same answers, alone and beside another session's calls.
+func TestP2QuestionsApart(t *testing.T) {
+	var replies []api.Reply
+	const rounds = 2000
+	alone := begun(t)
+	r := rand.New(rand.NewSource(4))
+	for i := 0; i < rounds; i++ {
+		_, got := anyCall(r, alone)
+		replies = append(replies, got)
+	}
+	beside := begun(t)
+	other := holding(t, "p(1). p(2). p(X, Y) :- p(X), p(Y). q. q(X) :- p(X, X). r(_, _, _).")
+	r = rand.New(rand.NewSource(4))
+	for i := 0; i < rounds; i++ {
+		other.Ask("p(X, Y).")
+		call, got := anyCall(r, beside)
+		if got != replies[i] {
+			t.Fatalf("call %d, %s = %+v beside another session, %+v alone", i, call, got, replies[i])
+		}
+		wantMore(t, other, "X = 1, Y = 2", "X = 2, Y = 1")
+	}
 }
 
 // Sessions that began with the same clauses go their own ways from there.

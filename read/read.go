@@ -1,4 +1,4 @@
-// Package read: texts, read as clauses.
+// Package read: texts, read as clauses or as a question.
 package read
 
 import (
@@ -10,7 +10,7 @@ import (
 type reader struct {
 	text  string
 	token token    // the first that has not been used yet
-	names []string // of the variables of this clause, so far
+	names []string // of the variables of this clause or question, so far
 	code  api.Errno
 	place int
 }
@@ -33,6 +33,26 @@ func Clauses(text string) ([]term.Clause, api.Errno, int) {
 	return clauses, api.OK, 0
 }
 
+// Question reads a text as one question (P4): its goals and what each of its variables is called, or what is wrong and at which place.
+func Question(text string) ([]term.Term, []string, api.Errno, int) {
+	if len(text) > api.MaxText {
+		return nil, nil, api.ErrLong, 0
+	}
+	r := reader{text: text}
+	r.step()
+	goals, ok := r.goals()
+	if ok {
+		ok = r.expect(dot)
+	}
+	if ok {
+		ok = r.expect(end)
+	}
+	if !ok {
+		return nil, nil, r.code, r.place
+	}
+	return goals, r.names, api.OK, 0
+}
+
 func (r *reader) step() { r.token = scan(r.text, r.token.to) }
 
 // refuse stops at the token at hand. One that is wrong in itself has a reason of its own, wherever it stands.
@@ -42,6 +62,16 @@ func (r *reader) refuse(code api.Errno) {
 		r.code = r.token.code
 	}
 	r.place = r.token.from
+}
+
+// expect steps behind a token that must stand here.
+func (r *reader) expect(kind int) bool {
+	if r.token.kind != kind {
+		r.refuse(api.ErrSyntax)
+		return false
+	}
+	r.step()
+	return true
 }
 
 func (r *reader) clause() (term.Clause, bool) {
@@ -58,11 +88,10 @@ func (r *reader) clause() (term.Clause, bool) {
 			return term.Clause{}, false
 		}
 	}
-	if r.token.kind != dot {
-		r.refuse(api.ErrSyntax)
+	ok = r.expect(dot)
+	if !ok {
 		return term.Clause{}, false
 	}
-	r.step()
 	return term.Clause{Head: head, Body: body}, true
 }
 
@@ -172,7 +201,7 @@ func (r *reader) named() (term.Term, bool) {
 	}
 }
 
-// which tells which variable of the clause the one at hand is.
+// which tells which variable of the clause or question the one at hand is.
 func (r *reader) which() (int, bool) {
 	called := r.word()
 	for i, known := range r.names {

@@ -38,6 +38,23 @@ func TestNothingBesideAnError(t *testing.T) {
 	}
 }
 
+func TestQuestionAsParts(t *testing.T) {
+	want := []term.Term{
+		{{Kind: term.Name, Name: "p", Args: 3}, {Kind: term.Variable, Value: 0}, {Kind: term.Variable, Value: 1}, {Kind: term.Variable, Value: 2}},
+		{{Kind: term.Cut}},
+		{{Kind: term.Name, Name: "q", Args: 2}, {Kind: term.Variable, Value: 3}, {Kind: term.Variable, Value: 0}},
+	}
+	goals, names, code, place := Question(" p(Y, _, _a), !, q(_, Y).\n")
+	if code != api.OK || place != 0 || !reflect.DeepEqual(goals, want) || !reflect.DeepEqual(names, []string{"Y", "_", "_a", "_"}) {
+		t.Errorf("%v, %v, %d, %d, want %v", goals, names, code, place, want)
+	}
+	for _, text := range []string{"", "a", "a. b.", "a(X), X.", string(make([]byte, api.MaxText+1))} {
+		if goals, names, code, _ := Question(text); goals != nil || names != nil || code == api.OK {
+			t.Errorf("%.20q: %v, %v, %d", text, goals, names, code)
+		}
+	}
+}
+
 func TestTokens(t *testing.T) {
 	const text = "pQ_1 _ X9( ) , .!:--12 -:a"
 	want := []token{

@@ -13,7 +13,7 @@ const (
 type Part struct {
 	Kind  int
 	Name  string // of a name or compound
-	Value int    // a number itself, or which variable it is (from 0 on)
+	Value int    // a number itself; or which variable it is, from 0 on; or the height of a cut
 	Args  int    // how many arguments a compound has
 }
 
@@ -26,21 +26,29 @@ type Clause struct {
 	Body []Term
 }
 
+// Top is a term's first part: its name, if it has one. (No term is without parts; of none at all this is a part of no kind.)
+func (t Term) Top() Part {
+	if len(t) == 0 {
+		return Part{}
+	}
+	return t[0]
+}
+
 // BuiltIn tells whether a term's predicate is one that no clause may have. (The cut, which is built in too, is no term.)
 func (t Term) BuiltIn() bool {
-	if len(t) == 0 || t[0].Kind != Name {
+	top := t.Top()
+	if top.Kind != Name {
 		return false
 	}
-	name := t[0].Name
-	switch t[0].Args {
+	switch top.Args {
 	case 0:
-		return name == "true" || name == "fail"
+		return top.Name == "true" || top.Name == "fail"
 	case 1:
-		return name == "not"
+		return top.Name == "not"
 	case 2:
-		return name == "eq" || name == "less"
+		return top.Name == "eq" || top.Name == "less"
 	case 3:
-		return name == "plus"
+		return top.Name == "plus"
 	}
 	return false
 }

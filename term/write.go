@@ -19,12 +19,17 @@ func (c Clause) Text() string {
 	return text + "."
 }
 
-// Text writes a term, or a goal that is a cut.
-func (t Term) Text() string {
+// Text writes a term, or a goal that is a cut, as it is listed: its variables are letters.
+func (t Term) Text() string { return t.written(true) }
+
+// Answer writes a term as it stands in an answer: its variables are _1, _2 and so on.
+func (t Term) Answer() string { return t.written(false) }
+
+func (t Term) written(listed bool) string {
 	text := ""
 	var open []int // for each compound that is open, how many arguments are still to be ended
 	for _, part := range t {
-		text += part.word()
+		text += part.word(listed)
 		if part.Args > 0 {
 			text += "("
 			open = append(open, part.Args)
@@ -45,10 +50,13 @@ func (t Term) Text() string {
 	return text
 }
 
-func (p Part) word() string {
+func (p Part) word(listed bool) string {
 	switch p.Kind {
 	case Variable:
-		return letter(p.Value)
+		if listed {
+			return letter(p.Value)
+		}
+		return "_" + strconv.Itoa(p.Value+1)
 	case Number:
 		return strconv.Itoa(p.Value)
 	case Cut:
