@@ -26,7 +26,7 @@ type state struct {
 	fresh int // from this number on there are no variables
 }
 
-// choice is the state ahead of a goal that is its first, and the clauses (one at least) that are still to be used for it, by where they stand.
+// choice is the state ahead of a goal that is its first, and the clauses that are still to be used for it, by where they stand. That of a not has no clauses: its state is the one behind the not.
 type choice struct {
 	from    state
 	clauses []int
@@ -87,14 +87,25 @@ func (q *Question) again(clauses []term.Clause) int {
 		return api.No
 	}
 	latest := q.choices[last]
-	q.choices[last] = choice{} // lest it be kept behind the list's end
-	q.choices = q.choices[:last]
+	q.dropTo(last)
+	if len(latest.clauses) == 0 {
+		q.now = latest.from
+		return met
+	}
 	which := latest.clauses[0]
 	rest := latest.clauses[1:]
 	if len(rest) > 0 {
 		q.choices = append(q.choices, choice{from: latest.from, clauses: rest})
 	}
 	return q.use(latest.from, clauses[which], last)
+}
+
+// dropTo drops the latest choices, until there are no more than a height says.
+func (q *Question) dropTo(height int) {
+	for i := len(q.choices) - 1; i >= 0 && i >= height; i-- {
+		q.choices[i] = choice{} // lest it be kept behind the list's end
+		q.choices = q.choices[:i]
+	}
 }
 
 // take takes the first goal.

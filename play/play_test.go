@@ -101,6 +101,83 @@ func TestHeights(t *testing.T) {
 	}
 }
 
+// written writes the goals and terms of a state.
+func written(s state) string {
+	s = s.renumbered()
+	text := ""
+	for _, t := range joined(s.goals, s.terms) {
+		text += t.Text() + " "
+	}
+	return text
+}
+
+// A not leaves what is behind it in a choice, and has that dropped by a cut.
+func TestNot(t *testing.T) {
+	clauses := clausesOf(t, "d(0). d(1). d(2).")
+	q := begun(t, "d(X), d(_), not(d(Y)), e(X, Y), !.")
+	for i := 0; i < 3; i++ {
+		if outcome := q.take(clauses); outcome != met {
+			t.Fatalf("the outcome of goal %d is %d", i, outcome)
+		}
+	}
+	if text := written(q.now); text != "d(A) ! fail 0 A " || cuts(q.now.goals)[0] != 2 {
+		t.Errorf("to be met within the not, and the terms: %s, cuts %v", text, cuts(q.now.goals))
+	}
+	if len(q.choices) != 3 {
+		t.Fatalf("%d choices within the not", len(q.choices))
+	}
+	put := q.choices[2]
+	if text := written(put.from); text != "e(0,A) ! 0 A " || cuts(put.from.goals)[0] != 0 || len(put.clauses) != 0 {
+		t.Errorf("its choice: %s, cuts %v, clauses %v", text, cuts(put.from.goals), put.clauses)
+	}
+	if outcome := q.again(clauses); outcome != met || len(q.choices) != 2 || written(q.now) != "e(0,A) ! 0 A " {
+		t.Errorf("taken up: %d, with %d choices %s", outcome, len(q.choices), written(q.now))
+	}
+}
+
+// Of choices that a cut drops nothing is kept, not even behind the list's end.
+func TestDropTo(t *testing.T) {
+	clauses := clausesOf(t, "d(0). d(1).")
+	for height := 0; height <= 4; height++ {
+		q := begun(t, "d(_), d(_), d(_), !, d(_).")
+		for i := 0; i < 3; i++ {
+			q.take(clauses)
+		}
+		q.dropTo(height)
+		left := min(height, 3)
+		if len(q.choices) != left {
+			t.Errorf("height %d leaves %d choices", height, len(q.choices))
+		}
+		for i, c := range q.choices[:3] {
+			if kept := len(c.from.goals) > 0; kept != (i < left) {
+				t.Errorf("height %d, choice %d: %v", height, i, c)
+			}
+		}
+	}
+}
+
+// No question is suspended within a not, so what it keeps are clauses to be used.
+func TestNoNotSuspended(t *testing.T) {
+	clauses := clausesOf(t, "d(0). d(1). d(2). p(X) :- d(X), not(not(d(_))), not(q(X)). q(X) :- d(Y), not(not(d(Y))), less(X, Y), !.")
+	q := begun(t, "not(not(p(_))), d(X), p(Y), not(d(3)), d(Z).")
+	reply := q.First(clauses, 1000)
+	answers := 0
+	choices := 0
+	for reply.Kind == api.Answer {
+		answers++
+		choices += len(q.choices)
+		for i, c := range q.choices {
+			if len(c.clauses) == 0 {
+				t.Errorf("%s: choice %d has no clauses", reply.Text, i)
+			}
+		}
+		reply = q.Next(clauses, 1000)
+	}
+	if answers != 9 || choices != 12 || reply.Kind != api.No {
+		t.Errorf("%d answers with %d choices, then %+v", answers, choices, reply)
+	}
+}
+
 // A question that goes on for ever keeps no more for it.
 func TestSuspended(t *testing.T) {
 	clauses := clausesOf(t, "p(X, Y). p(X, Y) :- r(X, Z, Y, A), p(Y, X). r(_, _, _, _).")
@@ -130,12 +207,7 @@ func TestWithChangesNothing(t *testing.T) {
 	if outcome != met || !reflect.DeepEqual(q.now, before) {
 		t.Errorf("outcome %d, and %v became %v", outcome, before, q.now)
 	}
-	text := ""
-	next = next.renumbered()
-	for _, t := range joined(next.goals, next.terms) {
-		text += t.Text() + " "
-	}
-	if text != "q(A) ! q(f(b),A) f(b) A " {
+	if text := written(next); text != "q(A) ! q(f(b),A) f(b) A " {
 		t.Errorf("what is to be met, and the terms: %s", text)
 	}
 }

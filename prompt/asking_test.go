@@ -38,6 +38,12 @@ func expected(word string) api.Reply {
 		return api.Reply{Kind: api.Big}
 	case "Cyclic":
 		return api.Reply{Kind: api.Cyclic}
+	case "Unbound":
+		return api.Reply{Kind: api.Unbound}
+	case "Mistyped":
+		return api.Reply{Kind: api.Mistyped}
+	case "Range":
+		return api.Reply{Kind: api.Range}
 	case "Unknown":
 		return api.Reply{Kind: api.Unknown}
 	}
@@ -71,12 +77,19 @@ func wantReplies(t *testing.T, x *prompt.Session, question string, words ...stri
 const edges = "edge(a, b). edge(b, c). edge(a, d). path(X, Y) :- edge(X, Y). path(X, Y) :- edge(X, Z), path(Z, Y)."
 
 func TestP7Examples(t *testing.T) {
-	x := holding(t, edges, "add(z, Y, Y). add(s(X), Y, s(Z)) :- add(X, Y, Z).")
+	x := holding(t, edges, "first(X) :- edge(X, _), !.", "add(z, Y, Y). add(s(X), Y, s(Z)) :- add(X, Y, Z).")
 	wantReplies(t, x, "edge(a, X).", "X = b", "X = d", "No", "Idle")
 	wantReplies(t, x, "path(a, X).", "X = b", "X = d", "X = c", "No", "Idle")
+	wantReplies(t, x, "first(X).", "X = a", "No")
 	wantReplies(t, x, "add(X, Y, s(z)).", "X = z, Y = s(z)", "X = s(z), Y = z", "No")
 	wantReplies(t, x, "add(s(P), _, Q).", "P = z, Q = s(_1)")
+	wantReplies(t, x, "not(edge(c, _)).", "yes", "No")
+	wantReplies(t, x, "not(not(edge(a, X))).", "X = _1")
+	wantReplies(t, x, "plus(1, 2, X), less(X, 4).", "X = 3")
 	wantReplies(t, x, "eq(X, f(X)).", "Cyclic")
+	wantReplies(t, x, "less(X, 1).", "Unbound")
+	wantReplies(t, x, "less(a, 1).", "Mistyped")
+	wantReplies(t, x, "plus(999999999, 1, X).", "Range")
 	wantReplies(t, x, "none.", "Unknown")
 	wantReplies(t, x, "eq(X, Y), eq(Z, g(Y, X)).", "X = _1, Y = _1, Z = g(_1,_1)")
 	if code, _ := x.Consult("loop :- loop."); code != api.OK {
@@ -102,7 +115,7 @@ func TestP7NoQuestion(t *testing.T) {
 func TestP7Ends(t *testing.T) {
 	const clauses = "p(a). p(b). p(c). loop :- loop. deep :- p(_), deep. big(X) :- big(f(X, X))."
 	ends := []struct{ question, word string }{
-		{"fail.", "No"}, {"p(d).", "No"}, {"loop.", "Limit"}, {"p(_), loop.", "Limit"}, {"deep.", "Deep"}, {"big(a).", "Big"}, {"p(_), eq(X, f(X)).", "Cyclic"}, {"p(_), p(_, _).", "Unknown"},
+		{"fail.", "No"}, {"p(d).", "No"}, {"loop.", "Limit"}, {"p(_), loop.", "Limit"}, {"deep.", "Deep"}, {"big(a).", "Big"}, {"p(_), eq(X, f(X)).", "Cyclic"}, {"p(_), not(_).", "Unbound"}, {"p(_), less(a, 1).", "Mistyped"}, {"p(_), plus(999999999, 1, _).", "Range"}, {"p(_), p(_, _).", "Unknown"}, {"p(_), !, fail.", "No"}, {"not(p(_)).", "No"},
 	}
 	x := holding(t, clauses)
 	for _, end := range ends {
@@ -131,6 +144,11 @@ func TestP7EndsInMore(t *testing.T) {
 	wantReplies(t, x, "u.", "yes", "Cyclic", "Idle")
 	wantReplies(t, x, "v.", "yes", "Unknown", "Idle")
 	wantReplies(t, x, "w.", "yes", "No", "Idle")
+	y := holding(t, "p. p :- less(1, _). q. q :- not(7). r. r :- plus(-999999999, -1, _). s. s :- p, !, fail. s.")
+	wantReplies(t, y, "p.", "yes", "Unbound", "Idle")
+	wantReplies(t, y, "q.", "yes", "Mistyped", "Idle")
+	wantReplies(t, y, "r.", "yes", "Range", "Idle")
+	wantReplies(t, y, "s.", "yes", "No", "Idle")
 }
 
 // The question before is ended as soon as a new one is asked, and none comes back.
@@ -213,7 +231,7 @@ func TestP7NotBad(t *testing.T) {
 	wantReplies(t, x, " true \n . \n ", "yes")
 	wantReplies(t, x, "true."+strings.Repeat(" ", 395), "yes")
 	wantReplies(t, x, strings.Repeat("\n", 395)+"true.", "yes")
-	for _, built := range []string{"true.", "eq(a,a).", "true, eq(1,1)."} {
+	for _, built := range []string{"true.", "!.", "eq(a,a).", "not(fail).", "less(1,2).", "plus(1,2,3).", "true, eq(1,1).", "!,!,!,!,!,!,!,!."} {
 		wantReplies(t, x, built, "yes", "No")
 	}
 }

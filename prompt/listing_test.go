@@ -74,6 +74,23 @@ func anyNamed(r *rand.Rand, deep int) string {
 	return text + "\n)"
 }
 
+// anyGoal makes the text of a goal: a cut, one that is built in, or one that clauses may be for.
+func anyGoal(r *rand.Rand, deep int) string {
+	switch r.Intn(12) {
+	case 0, 1:
+		return "!"
+	case 2:
+		return "not(" + anyNamed(r, deep) + ")"
+	case 3:
+		return "not (" + anyTerm(r, deep) + ")"
+	case 4:
+		return "less(" + anyTerm(r, 0) + "," + anyTerm(r, 0) + ")"
+	case 5:
+		return "plus(" + anyTerm(r, 0) + ", " + anyTerm(r, 0) + " ," + anyTerm(r, deep) + ")"
+	}
+	return anyNamed(r, deep)
+}
+
 func anyClause(r *rand.Rand) string {
 	text := anyNamed(r, 2)
 	for i := r.Intn(4); i > 0; i-- {
@@ -81,11 +98,7 @@ func anyClause(r *rand.Rand) string {
 		if !strings.Contains(text, ":-") {
 			between = " :- "
 		}
-		goal := anyNamed(r, 2)
-		if r.Intn(4) == 0 {
-			goal = "!"
-		}
-		text += between + goal
+		text += between + anyGoal(r, 2)
 	}
 	return text + " . "
 }

@@ -63,7 +63,7 @@ func TestP1NilSession(t *testing.T) {
 
 // anyText strings tokens and bytes together that may or may not make sense.
 func anyText(r *rand.Rand) string {
-	pieces := []string{"p", "q", "p(", "true", "eq(", "X", "Y", "_", "3", "-3", "-", "(", ")", ")", ",", ",", ".", ".", "!", ":-", ":-", ":", " ", "\n", "\t", "$", "\x00", "\xff", "abcdefghijklm", "1234567890"}
+	pieces := []string{"p", "q", "p(", "true", "eq(", "not(", "less(", "plus(", "X", "Y", "_", "3", "-3", "-", "(", ")", ")", ",", ",", ".", ".", "!", ":-", ":-", ":", " ", "\n", "\t", "$", "\x00", "\xff", "abcdefghijklm", "1234567890"}
 	text := ""
 	for n := r.Intn(60); n > 0; n-- {
 		text += pieces[r.Intn(len(pieces))]
@@ -131,7 +131,7 @@ func anyCall(r *rand.Rand, x *prompt.Session) (string, api.Reply) {
 		x.Stop()
 		return "Stop", x.More()
 	case k < 10:
-		text := anyNamed(r, 2) + "," + anyNamed(r, 1) + "."
+		text := anyGoal(r, 2) + "," + anyGoal(r, 1) + "."
 		return "Ask " + text, x.Ask(text)
 	}
 	return "More", x.More()

@@ -12,6 +12,18 @@ func (t Term) Lead() int {
 	return len(t)
 }
 
+// Arg is one of a term's arguments, counted from 0 on; where there is none, it is without parts.
+func (t Term) Arg(which int) Term {
+	if len(t) == 0 {
+		return nil
+	}
+	rest := t[1:]
+	for i := 0; i < which; i++ {
+		rest = rest[rest.Lead():]
+	}
+	return rest[:rest.Lead()]
+}
+
 // Count tells how often a variable stands in a term.
 func (t Term) Count(which int) int {
 	count := 0

@@ -24,6 +24,22 @@ func TestLead(t *testing.T) {
 	}
 }
 
+func TestArg(t *testing.T) {
+	a := named("a", 0)
+	g := named("g", 1)
+	three := Term{named("f", 3), g, g, a, variable(4), named("h", 2), a, g, a}
+	for which, want := range []Term{{g, g, a}, {variable(4)}, {named("h", 2), a, g, a}, {}, {}} {
+		if got := three.Arg(which); len(got) != len(want) || len(want) > 0 && !reflect.DeepEqual(got, want) {
+			t.Errorf("argument %d is %v, want %v", which, got, want)
+		}
+	}
+	for _, none := range []Term{nil, {a}, {variable(0)}, {g}} {
+		if got := none.Arg(0); len(got) != 0 {
+			t.Errorf("%v has the argument %v", none, got)
+		}
+	}
+}
+
 func TestPut(t *testing.T) {
 	f := named("f", 3)
 	whole := Term{f, variable(1), variable(2), variable(1)}
