@@ -36,13 +36,16 @@ type choice struct {
 func Begin(goals []term.Term, names []string) *Question {
 	q := &Question{now: state{goals: goals, fresh: len(names)}}
 	for i, name := range names {
-		if len(name) > 0 && name[0] != '_' {
+		if isNamed(name) {
 			q.names = append(q.names, name)
 			q.now.terms = append(q.now.terms, term.Term{term.Part{Kind: term.Variable, Value: i}})
 		}
 	}
 	return q
 }
+
+// isNamed tells whether a variable is one that answers tell of.
+func isNamed(variable string) bool { return len(variable) > 0 && variable[0] != '_' }
 
 // First plays a question that has begun till there is a reply.
 func (q *Question) First(clauses []term.Clause, limit int) api.Reply {
@@ -115,6 +118,16 @@ func (q *Question) take(clauses []term.Clause) int {
 	if top.Kind == term.Cut || goal.BuiltIn() {
 		return q.builtIn(goal)
 	}
+	matching, known := q.now.matching(clauses)
+	if !known {
+		return api.Unknown
+	}
+	return q.choose(clauses, matching)
+}
+
+// matching tells which clauses match a state's first goal, and whether there are any of its predicate.
+func (s state) matching(clauses []term.Clause) ([]int, bool) {
+	top := s.goals[0].Top()
 	known := false
 	var matching []int
 	for i, clause := range clauses {
@@ -122,15 +135,12 @@ func (q *Question) take(clauses []term.Clause) int {
 			continue
 		}
 		known = true
-		_, outcome := q.now.with(clause, 0)
+		_, outcome := s.with(clause, 0)
 		if outcome != fails {
 			matching = append(matching, i)
 		}
 	}
-	if !known {
-		return api.Unknown
-	}
-	return q.choose(clauses, matching)
+	return matching, known
 }
 
 // choose uses the first of the matching clauses, and keeps the others as a choice.

@@ -7,6 +7,7 @@ import (
 	"testing"
 
 	"prompt/api"
+	"prompt/prompt"
 )
 
 // tree is a term, or a goal that is a cut. The model below plays with trees, word for word as the document tells it, to be compared with the program.
@@ -437,27 +438,34 @@ func textOf(goals []*tree) string {
 	return strings.Join(texts, ", ")
 }
 
+// someClauses puts the same clauses into a model and into a session with its limit.
+func someClauses(t *testing.T, r *rand.Rand) (*model, *prompt.Session) {
+	t.Helper()
+	m := &model{limit: []int{5, 60, 300}[r.Intn(3)]}
+	x := limited(t, m.limit)
+	for n := 4 + r.Intn(10); n > 0; n-- {
+		c := rule{head: somePredicate(r)}
+		text := textOf([]*tree{c.head})
+		if r.Intn(3) > 0 {
+			c.body = someGoals(r, 3)
+		}
+		if len(c.body) > 0 {
+			text += " :- " + textOf(c.body)
+		}
+		if code, place := x.Consult(text + "."); code != api.OK {
+			t.Fatalf("Consult(%q) = %d, %d", text, code, place)
+		}
+		m.rules = append(m.rules, c)
+	}
+	return m, x
+}
+
 // The program answers as the model does, whatever is asked of whatever clauses.
 func TestP9Model(t *testing.T) {
 	r := rand.New(rand.NewSource(9))
 	var kinds [api.Unknown + 1]int
 	for i := 0; i < 4000; i++ {
-		m := &model{limit: []int{5, 60, 300}[r.Intn(3)]}
-		x := limited(t, m.limit)
-		for n := 4 + r.Intn(10); n > 0; n-- {
-			c := rule{head: somePredicate(r)}
-			text := textOf([]*tree{c.head})
-			if r.Intn(3) > 0 {
-				c.body = someGoals(r, 3)
-			}
-			if len(c.body) > 0 {
-				text += " :- " + textOf(c.body)
-			}
-			if code, place := x.Consult(text + "."); code != api.OK {
-				t.Fatalf("Consult(%q) = %d, %d", text, code, place)
-			}
-			m.rules = append(m.rules, c)
-		}
+		m, x := someClauses(t, r)
 		for n := 0; n < 6; n++ {
 			goals := append(someGoals(r, 3), someGoal(r, 3))
 			text := textOf(goals) + "."

@@ -88,9 +88,3 @@ func (x *Session) Stop() {
 		x.question = nil
 	}
 }
-
-// Save tells the session as bytes (P13). There are no images yet.
-func (x *Session) Save() string { return "" }
-
-// Load puts a session that was saved in the place of this one (P13, P14). As long as Save gives no image, no bytes are one.
-func (x *Session) Load(image string) api.Errno { return api.ErrImage }

@@ -70,3 +70,18 @@ func TestTokens(t *testing.T) {
 		offset = got.to
 	}
 }
+
+func TestWords(t *testing.T) {
+	for _, c := range []struct {
+		word               string
+		isName, isVariable bool
+	}{
+		{"a", true, false}, {"aB_9", true, false}, {"abcdefghijkl", true, false}, {"abcdefghijklm", false, false},
+		{"A", false, true}, {"_", false, true}, {"_a", false, true}, {"Abcdefghijkl", false, true}, {"Abcdefghijklm", false, false},
+		{"", false, false}, {" ", false, false}, {" a", false, false}, {"a ", false, false}, {"a b", false, false}, {"A\n", false, false}, {"\nA", false, false}, {"a.", false, false}, {"A,", false, false}, {"7", false, false}, {"-7", false, false}, {"!", false, false}, {":-", false, false}, {"a(b)", false, false}, {"$", false, false}, {"a$", false, false}, {"\x00", false, false}, {"\xe4", false, false},
+	} {
+		if IsName(c.word) != c.isName || IsVariable(c.word) != c.isVariable {
+			t.Errorf("%q: name %v, variable %v", c.word, IsName(c.word), IsVariable(c.word))
+		}
+	}
+}

@@ -25,6 +25,17 @@ type token struct {
 	code api.Errno // what is wrong with a wrong one
 }
 
+// IsName tells whether a word is a name, and nothing beside it.
+func IsName(word string) bool { return isToken(word, name) }
+
+// IsVariable tells whether a word is a variable, and nothing beside it.
+func IsVariable(word string) bool { return isToken(word, variable) }
+
+func isToken(word string, kind int) bool {
+	t := scan(word, 0)
+	return t.kind == kind && t.from == 0 && t.to == len(word)
+}
+
 // scan finds the first token at an offset or behind it.
 func scan(text string, offset int) token {
 	from := pastBlanks(text, offset)
